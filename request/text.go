@@ -33,7 +33,7 @@ func readFirst(line string) api.Request {
 	host, at := upTo(from, ":")
 	n, e := addr.Parse(host)
 	must(e == api.OK)
-	// A piece of s would keep all of s in memory.
+	// A piece of the text would keep all of it in memory.
 	return api.Request{Method: strings.Clone(method), Path: onePath(path), Addr: n, Port: port(at)}
 }
 
